@@ -1,0 +1,1 @@
+"""Wholetraces: which parts of a trace are kept."""
