@@ -1,9 +1,11 @@
 """Values that several tests use."""
 
 import itertools
+import random
 
 from wholetraces.books import Book, Service
 from wholetraces.rows import Back, Begin, End, Send
+from wholetraces.trees import Call, Hear, Leave, Wait
 
 NO_NAMES = ("none", "any", "same", "keep", "drop", "good", "bad", "old", "new", "both")
 
@@ -106,3 +108,323 @@ LONG_TEXT = "\n".join([
 
 # The numbers of the lines of LONG_TEXT in which its rows stand.
 LONG_ROW_LINES = (3, 4, 5, 6, 7, 8, 9, 10, 13, 17, 18, 19)
+
+
+def any_values():
+    """Values of any kind, strings too."""
+    return list(NO_NAMES) + list(NO_NAME_STRINGS) + list(NAMES) + no_strings() + things_of_trees()
+
+
+def things_of_trees():
+    leaf = Call("pay", "sub")
+    return [leaf, Call("web", "top", True, [Wait(leaf), Leave(leaf), Hear(0)], "new"), Wait(leaf), Leave(leaf), Hear(0)]
+
+
+def book_of(*lines):
+    """The book of the lines of a text."""
+    return Book.read("\n".join(lines))
+
+
+# What random books are made of, in the order in which it is taken.
+SERVICE_NAMES = ("web", "pay", "log")
+KIND_NAMES = ("top", "sub")
+MOOD_NAMES = ("calm", "loud", "wary")
+MARK_NAMES = ("red", "blue")
+SIGN_NAMES = ("err", "oops")
+
+
+class RandomBooks:
+    """Makes books by a seed, of at most so many services, rows in each, kinds, moods, marks and signs."""
+
+    def __init__(self, seed, services=2, rows=5, kinds=1, moods=2, marks=1, signs=1):
+        self.random = random.Random(seed)
+        self.names = SERVICE_NAMES[:services]
+        self.rows = rows
+        self.kinds = KIND_NAMES[:kinds]
+        self.moods = MOOD_NAMES[:moods]
+        self.marks = ("none",) + MARK_NAMES[:marks]
+        self.signs = ("none",) + SIGN_NAMES[:signs]
+
+    def any_or(self, words):
+        return "any" if self.random.random() < 0.4 else self.random.choice(words)
+
+    def row(self):
+        sort, choice = self.random.random(), self.random.choice
+        if sort < 0.15:
+            return Begin(self.any_or(self.marks), self.any_or(self.kinds), choice(self.moods))
+        if sort < 0.35:
+            return Send(self.any_or(self.moods), self.any_or(self.names), choice(self.marks + ("same",)))
+        if sort < 0.65:
+            then = choice(self.moods + ("same",))
+            return Back(self.any_or(self.moods), self.any_or(self.names), self.any_or(self.signs), then)
+        part = choice(("keep", "keep", "drop"))
+        return End(self.any_or(self.moods), choice(("good", "bad", "any")), choice(self.signs), part)
+
+    def some(self, chance):
+        return [name for name in self.names if self.random.random() < chance]
+
+    def book(self):
+        services = []
+        for name in self.names:
+            rows = [self.row() for _ in range(self.rows)]
+            services.append(Service(name, self.kinds, self.some(0.6), self.some(0.6), rows))
+        return Book(services, self.some(0.3) or self.names[:1])
+
+    def books(self, count):
+        return [self.book() for _ in range(count)]
+
+    def tree(self, book, name, calls, deep=4):
+        """A call of a service with at most so many calls in it, such as the book lets be."""
+        service = book.named(name)
+        events, left, unheard = [], 0, []
+        budget = self.random.randrange(calls)
+        while budget > 0 and deep > 1:
+            way, to = self.random.choice((("wait", service.waits), ("leave", service.leaves), ("hear", unheard)))
+            if way == "hear" and unheard:
+                number = self.random.choice(unheard)
+                unheard.remove(number)
+                events.append(Hear(number))
+            elif to:
+                inner = self.tree(book, self.random.choice(to), self.random.randrange(budget) + 1, deep - 1)
+                budget -= len(inner)
+                events.append((Wait if way == "wait" else Leave)(inner))
+                if way == "leave":
+                    unheard.append(left)
+                    left += 1
+            elif not service.waits and not service.leaves:
+                break
+        for number in unheard:
+            if self.random.random() < 0.5:
+                events.append(Hear(number))
+        return Call(name, self.random.choice(service.kinds), self.random.random() < 0.4, events)
+
+
+def all_calls(book, name, size, side="old"):
+    """All calls of a service, with exactly so many calls in each, that the book lets be."""
+    service = book.named(name)
+    for events in event_lists(book, service, size - 1, 0, ()):
+        for kind in service.kinds:
+            for bad in (False, True):
+                yield Call(name, kind, bad, events, side)
+
+
+def event_lists(book, service, size, left, heard):
+    """All lists of events of a call behind so many left calls, with exactly so many calls in them."""
+    if size == 0:
+        yield []
+    for number in range(left):
+        if number not in heard:
+            for rest in event_lists(book, service, size, left, heard + (number,)):
+                yield [Hear(number)] + rest
+    for first in range(1, size + 1):
+        for name in service.waits:
+            for rest in event_lists(book, service, size - first, left, heard):
+                for call in all_calls(book, name, first):
+                    yield [Wait(call)] + rest
+        for name in service.leaves:
+            for rest in event_lists(book, service, size - first, left + 1, heard):
+                for call in all_calls(book, name, first):
+                    yield [Leave(call)] + rest
+
+
+class Lots:
+    """The outcomes of each service and mark with the fewest calls of each, as point [16] tells, over and over again.
+
+    A way is (mood, moods so far, traits, whether a part that was kept was made directly).
+    """
+
+    def __init__(self, book, marks=None):
+        self.book = book
+        self.costs = {(name, mark): {} for name in book.names for mark in (marks or book.marks)}
+        changed = True
+        while changed:
+            changed = False
+            for service, mark in self.costs:
+                for outcome, cost in self.told(service, mark).items():
+                    if cost < self.costs[(service, mark)].get(outcome, cost + 1):
+                        self.costs[(service, mark)][outcome] = cost
+                        changed = True
+
+    def ways(self, name, mark):
+        """All ways of a call, with the fewest calls for each."""
+        service = self.book.named(name)
+        ways = {}
+        waiting = []
+        for kind in service.kinds:
+            mood = service.begin(mark, kind)
+            ways[(mood, frozenset([mood]), frozenset(), False)] = 1
+        waiting = list(ways)
+        while waiting:
+            way = waiting.pop()
+            for then, cost in self.steps(service, mark, way):
+                if ways[way] + cost < ways.get(then, ways[way] + cost + 1):
+                    ways[then] = ways[way] + cost
+                    waiting.append(then)
+        return ways
+
+    def steps(self, service, mark, way):
+        mood, moods, traits, near = way
+        for other in service.waits:
+            for (sign, kept, more), cost in self.costs[(other, service.send(mood, other, mark))].items():
+                then = service.back(mood, other, sign)
+                yield (then, moods | {then}, traits | set(more), near or kept), cost
+        for other in service.leaves:
+            for before in moods:
+                for (sign, kept, more), cost in self.costs[(other, service.send(before, other, mark))].items():
+                    then = service.back(mood, other, sign)
+                    yield (then, moods | {then}, traits | set(more), near or kept), cost
+                    yield (mood, moods, traits | set(more), near or kept), cost
+
+    def told(self, name, mark):
+        """The outcomes of the ways of a call, with the fewest calls for each."""
+        service = self.book.named(name)
+        found = {}
+        for (mood, _, traits, near), cost in self.ways(name, mark).items():
+            for bad in (False, True):
+                sign, kept = service.end(mood, bad)
+                more = set(traits) | ({"b"} if bad else set()) | ({"k"} if kept else {"d"})
+                more |= ({"l"} if near and not kept else set()) | ({"x"} if bad and not kept else set())
+                outcome = (sign, kept, "".join(sorted(more)))
+                found[outcome] = min(cost, found.get(outcome, cost))
+        return found
+
+    def called(self, name, mark):
+        """The pairs (service, mark) of the calls that a call of a service makes."""
+        service = self.book.named(name)
+        found = set()
+        for mood, _, _, _ in self.ways(name, mark):
+            found |= {(other, service.send(mood, other, mark)) for other in service.waits + service.leaves}
+        return found
+
+    def reached(self):
+        found = set()
+        waiting = [(root, "none") for root in self.book.roots]
+        while waiting:
+            pair = waiting.pop()
+            if pair not in found:
+                found.add(pair)
+                waiting.extend(self.called(*pair))
+        return tuple(sorted(found))
+
+
+def is_met(outcome, goal):
+    _, kept, traits = outcome
+    return {
+        "torn": "k" in traits and "d" in traits, "lone": "l" in traits, "lost": "x" in traits,
+        "hushed": "b" in traits and not kept,
+    }[goal]
+
+
+GOALS = ("torn", "lone", "lost", "hushed")
+
+
+class Done:
+    """A tree done by hand: the parts, and whether each is of a bad call and which part is its caller's."""
+
+    def __init__(self, book, call, mark):
+        self.parts, self.bads, self.callers = [], [], []
+        self.book = book
+        self.sign = self.do(call, mark, None)
+
+    def do(self, call, mark, caller):
+        service = self.book.named(call.service)
+        at = len(self.parts)
+        self.parts.append(None)
+        self.bads.append(call.bad)
+        self.callers.append(caller)
+        mood = service.begin(mark, call.kind)
+        left = []
+        for event in call.events:
+            if isinstance(event, Hear):
+                mood = service.back(mood, *left[event.number])
+            else:
+                other = event.call.service
+                told = (other, self.do(event.call, service.send(mood, other, mark), at))
+                if isinstance(event, Wait):
+                    mood = service.back(mood, *told)
+                else:
+                    left.append(told)
+        sign, kept = service.end(mood, call.bad)
+        self.parts[at] = (call.service, mark, mood, sign, kept)
+        return sign
+
+    @property
+    def traits(self):
+        kept = [part[4] for part in self.parts]
+        found = {
+            "b": any(self.bads), "d": not all(kept), "k": any(kept),
+            "l": any(kept[at] and not kept[to] for at, to in enumerate(self.callers) if to is not None),
+            "x": any(bad and not kept[at] for at, bad in enumerate(self.bads)),
+        }
+        return "".join(letter for letter in "bdklx" if found[letter])
+
+
+def all_forms(signs):
+    """All outcomes with these signs that can stand in a lot."""
+    found = []
+    for sign, kept, size in itertools.product(signs, (False, True), range(6)):
+        for traits in itertools.combinations("bdklx", size):
+            if ("k" if kept else "d") in traits:
+                found.append((sign, kept, "".join(traits)))
+    return found
+
+
+def on_sides(call, choose):
+    """The same tree with other sides."""
+    events = []
+    for event in call.events:
+        if isinstance(event, Hear):
+            events.append(event)
+        else:
+            events.append(event.__class__(on_sides(event.call, choose)))
+    return Call(call.service, call.kind, call.bad, events, choose(("old", "new")))
+
+
+class Given(Lots):
+    """The lots of a paper, whose entries are of the right form."""
+
+    def __init__(self, book, entries):
+        self.book = book
+        self.costs = {(name, mark): dict.fromkeys(lot, 1) for name, mark, lot in entries}
+        self.doubled = len(self.costs) < len(entries)
+
+    def is_closed(self):
+        return all(
+            self.called(*pair) <= set(self.costs) and set(self.told(*pair)) <= set(lot) for pair, lot in self.costs.items())
+
+    def is_right(self, goal):
+        """Whether it is a right paper, as point [17] tells."""
+        for root in self.book.roots:
+            if (root, "none") not in self.costs or any(is_met(outcome, goal) for outcome in self.costs[(root, "none")]):
+                return False
+        try:
+            return not self.doubled and self.is_closed()
+        except KeyError:
+            # A call for which there is no entry.
+            return False
+
+    def grow(self):
+        """Puts into each lot what is missing there, and the entries that are missing."""
+        changed = True
+        while changed:
+            changed = False
+            for pair in list(self.costs):
+                for called in self.called_so_far(*pair):
+                    if called not in self.costs:
+                        self.costs[called] = {}
+                        changed = True
+                for outcome in self.told(*pair):
+                    if outcome not in self.costs[pair]:
+                        self.costs[pair][outcome] = 1
+                        changed = True
+
+    def called_so_far(self, name, mark):
+        """The calls that a call makes, where those with no entry as yet come to nothing."""
+        while True:
+            try:
+                return self.called(name, mark)
+            except KeyError as missing:
+                self.costs[missing.args[0]] = {}
+
+    def entries(self):
+        return tuple((name, mark, tuple(lot)) for (name, mark), lot in self.costs.items())
