@@ -14,7 +14,10 @@ class Lot:
         self.outcomes = {outcome: True for outcome in outcomes}
         self.told = {}
         for outcome in outcomes:
-            self.told.setdefault(outcome[0], {})[steps.adds(outcome)] = True
+            sign, _, _ = outcome
+            if sign not in self.told:
+                self.told[sign] = {}
+            self.told[sign][steps.adds(outcome)] = True
 
 
 def paper(book, goal):

@@ -34,8 +34,8 @@ class Steps:
     def calls(self, task, place):
         """The triples (way, mood, task) of the calls by which a call goes on here, and the mood in which it makes them.
 
-        It waits for one, leaves one that is never heard, or hears the sign of one that it has left. What is never heard
-        can as well be done at once when it is left, so for it the mood now is enough.
+        It waits for one, leaves one that is never heard, or hears the sign of one that it has left. Of one that is
+        never heard all is gathered when it is left, so for it the mood now is enough.
         """
         name, mark = task
         service = self._services[name]
