@@ -173,6 +173,34 @@ class RandomBooks:
     def books(self, count):
         return [self.book() for _ in range(count)]
 
+    def with_rows(self, book, change):
+        """The same services with other rows, as a change tells for each."""
+        services = []
+        for service in book.services:
+            services.append(Service(service.name, service.kinds, service.waits, service.leaves, change(list(service.rows))))
+        return Book(services, book.roots)
+
+    def other(self, book):
+        """A book of the same services and roots with other rows."""
+        return self.with_rows(book, lambda rows: [self.row() for _ in range(self.rows)])
+
+    def near(self, book):
+        """A book of the same services and roots in which some rows are other ones, or stand elsewhere."""
+        def change(rows):
+            if rows and self.random.random() < 0.4:
+                rows[self.random.randrange(len(rows))] = self.row()
+            if self.random.random() < 0.3:
+                self.random.shuffle(rows)
+            return rows
+        return self.with_rows(book, change)
+
+    def pairs(self, count):
+        """Pairs of books that belong together."""
+        found = []
+        for book in self.books(count):
+            found.append((book, self.random.choice((self.other, self.near, self.near))(book)))
+        return found
+
     def tree(self, book, name, calls, deep=4):
         """A call of a service with at most so many calls in it, such as the book lets be."""
         service = book.named(name)
@@ -197,6 +225,33 @@ class RandomBooks:
             if self.random.random() < 0.5:
                 events.append(Hear(number))
         return Call(name, self.random.choice(service.kinds), self.random.random() < 0.4, events)
+
+
+class LivelyBooks(RandomBooks):
+    """Makes books in which most rows count: what a mood does differs from what another one does."""
+
+    def any_or(self, words):
+        return "any" if self.random.random() < 0.15 else self.random.choice(words)
+
+    def lively_rows(self):
+        choice = self.random.choice
+        rows = []
+        for mood in self.moods:
+            then = choice(self.moods)
+            rows.append(Back(mood, self.any_or(self.names), self.any_or(self.signs), then if then != mood else choice(self.moods)))
+            rows.append(End(mood, choice(("good", "bad", "any")), choice(self.signs), choice(("keep", "drop"))))
+            rows.append(End(mood, "any", choice(self.signs), choice(("keep", "drop"))))
+            if len(self.marks) > 1:
+                rows.append(Send(mood, self.any_or(self.names), choice(self.marks + ("same",))))
+                rows.append(Begin(choice(self.marks), self.any_or(self.kinds), mood))
+        self.random.shuffle(rows)
+        return rows[:self.rows]
+
+    def book(self):
+        services = []
+        for name in self.names:
+            services.append(Service(name, self.kinds, self.some(0.5), self.some(0.6), self.lively_rows()))
+        return Book(services, self.some(0.3) or self.names[:1])
 
 
 def all_calls(book, name, size, side="old"):
@@ -319,15 +374,18 @@ GOALS = ("torn", "lone", "lost", "hushed")
 
 
 class Done:
-    """A tree done by hand: the parts, and whether each is of a bad call and which part is its caller's."""
+    """A tree done by hand: the parts, and whether each is of a bad call and which part is its caller's.
 
-    def __init__(self, book, call, mark):
+    Calls on the side `new` are done by the new book, if there is one.
+    """
+
+    def __init__(self, book, call, mark="none", new=None):
         self.parts, self.bads, self.callers = [], [], []
-        self.book = book
+        self.books = {"old": book, "new": book if new is None else new}
         self.sign = self.do(call, mark, None)
 
     def do(self, call, mark, caller):
-        service = self.book.named(call.service)
+        service = self.books[call.side].named(call.service)
         at = len(self.parts)
         self.parts.append(None)
         self.bads.append(call.bad)
@@ -357,6 +415,14 @@ class Done:
             "x": any(bad and not kept[at] for at, bad in enumerate(self.bads)),
         }
         return "".join(letter for letter in "bdklx" if found[letter])
+
+    @property
+    def kept(self):
+        return [part[4] for part in self.parts]
+
+    @property
+    def outcome(self):
+        return self.sign, self.kept[0], self.traits
 
 
 def all_forms(signs):
@@ -428,3 +494,125 @@ class Given(Lots):
 
     def entries(self):
         return tuple((name, mark, tuple(lot)) for (name, mark), lot in self.costs.items())
+
+
+class PairLots:
+    """What can come of calls in two books side by side, with the fewest calls of each, over and over again.
+
+    A task is (service, mark, other mark), what can come of it is (sign, other sign, whether a part is parted). If the
+    moments are apart, a late sign comes up in both books, or in one of them alone.
+    """
+
+    def __init__(self, p, q, tasks, apart=False):
+        self.p, self.q, self.apart = p, q, apart
+        self.costs = {task: {} for task in tasks}
+        changed = True
+        while changed:
+            changed = False
+            for task in list(self.costs):
+                for result, cost in self.told(task).items():
+                    if cost < self.costs[task].get(result, cost + 1):
+                        self.costs[task][result] = cost
+                        changed = True
+                changed = changed or self.grown
+                self.grown = False
+
+    grown = False
+
+    def results(self, name, marks):
+        if (name,) + marks not in self.costs:
+            self.costs[(name,) + marks] = {}
+            self.grown = True
+        return list(self.costs[(name,) + marks].items())
+
+    def told(self, task):
+        name, *marks = task
+        services = (self.p.named(name), self.q.named(name))
+        ways = {}
+        for kind in services[0].kinds:
+            moods = tuple(service.begin(mark, kind) for service, mark in zip(services, marks))
+            ways[(moods, frozenset([moods]), False)] = 1
+        waiting = list(ways)
+        while waiting:
+            way = waiting.pop()
+            for then, cost in self.steps(services, marks, way):
+                if ways[way] + cost < ways.get(then, ways[way] + cost + 1):
+                    ways[then] = ways[way] + cost
+                    waiting.append(then)
+        found = {}
+        for (moods, _, parted), cost in ways.items():
+            for bad in (False, True):
+                (sign, kept), (other, also) = (service.end(mood, bad) for service, mood in zip(services, moods))
+                result = (sign, other, parted or kept != also)
+                found[result] = min(cost, found.get(result, cost))
+        return found
+
+    def steps(self, services, marks, way):
+        moods, so_far, parted = way
+
+        def sent(before, other):
+            return tuple(service.send(mood, other, mark) for service, mood, mark in zip(services, before, marks))
+
+        for other in services[0].waits:
+            for (sign, also, more), cost in self.results(other, sent(moods, other)):
+                then = (services[0].back(moods[0], other, sign), services[1].back(moods[1], other, also))
+                yield (then, so_far | {then}, parted or more), cost
+        for other in services[0].leaves:
+            for before in so_far:
+                for (sign, also, more), cost in self.results(other, sent(before, other)):
+                    yield (moods, so_far, parted or more), cost
+                    first, second = services[0].back(moods[0], other, sign), services[1].back(moods[1], other, also)
+                    thens = [(first, second)]
+                    if self.apart:
+                        thens += [(first, moods[1]), (moods[0], second)]
+                    for then in thens:
+                        yield (then, so_far | {then}, parted or more), cost
+
+    def least(self, tasks):
+        """The fewest calls in which a part is parted, or None."""
+        return min((cost for task in tasks for result, cost in self.costs[task].items() if result[2]), default=None)
+
+
+def least_parted(p, q, apart=False):
+    tasks = [(root, "none", "none") for root in p.roots]
+    return PairLots(p, q, tasks, apart).least(tasks)
+
+
+def are_one(book, mark, other):
+    tasks = [(name, mark, other) for name in book.names]
+    lots = PairLots(book, book, tasks)
+    return all(sign == also and not parted for task in tasks for sign, also, parted in lots.costs[task])
+
+
+class SideLots(Lots):
+    """The outcomes of each service and mark while services are changed, with the fewest calls of each."""
+
+    def __init__(self, old, new, standing):
+        self.books, self.standing = {"old": old, "new": new}, standing
+        super().__init__(old, sorted({"none", *old.marks, *new.marks}))
+
+    def told(self, name, mark):
+        found = {}
+        for side in ("old", "new"):
+            if self.standing[name] in (side, "both"):
+                self.book = self.books[side]
+                for outcome, cost in super().told(name, mark).items():
+                    found[outcome] = min(cost, found.get(outcome, cost))
+        return found
+
+    def least(self, goal):
+        """The fewest calls of a tree of a root that meets a goal, or None."""
+        costs = [item for root in self.book.roots for item in self.costs[(root, "none")].items()]
+        return min((cost for outcome, cost in costs if is_met(outcome, goal)), default=None)
+
+
+def without_hears(call):
+    """The text of a tree but for its late signs."""
+    events = [event for event in call.events if not isinstance(event, Hear)]
+    inner = [event.__class__.__name__ + " " + without_hears(event.call) for event in events]
+    return f"{call.service} {call.kind} {call.bad} {call.side} {inner}"
+
+
+def all_sides(call):
+    """The pairs (service, side) of all calls of a tree."""
+    return {(call.service, call.side)}.union(*[all_sides(inner) for inner in call.inner])

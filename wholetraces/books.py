@@ -4,11 +4,7 @@ from wholetraces.checks import are_names, are_some_names, is_integer, is_name, i
 from wholetraces.errors import InvalidBook, InvalidService, NoRow, NoService
 from wholetraces.reading import read_parts
 from wholetraces.rows import Back, Begin, End, Row, Send
-
-
-def fits(word, value):
-    """Whether a word that a row is looked for by fits a value."""
-    return word == "any" or word == value
+from wholetraces.traits import own_bits
 
 
 def ascending(words):
@@ -39,6 +35,25 @@ def without_own_row(service, at):
     return Service(service.name, service.kinds, service.waits, service.leaves, rows)
 
 
+def end_in(ends, mood, bad):
+    """The sign and whether the part is kept, by the words of these rows, when a call ends so in this mood."""
+    outcome = "bad" if bad else "good"
+    for in_mood, for_outcome, sign, part in ends:
+        if (in_mood == mood or in_mood == "any") and (for_outcome == outcome or for_outcome == "any"):
+            return sign, part == "keep"
+    return "none", False
+
+
+def endings_in(ends, mood):
+    """For both ends in this mood whether it is bad, its sign, and what `own_bits` tells of it."""
+    found = []
+    for bad in (False, True):
+        sign, kept = end_in(ends, mood, bad)
+        own, near = own_bits(bad, kept)
+        found.append((bad, sign, own, near))
+    return tuple(found)
+
+
 class Service:
     """A service: its kinds of calls, whom it calls, and the rows by which it decides."""
 
@@ -60,37 +75,40 @@ class Service:
         self.rows = tuple(rows)
         led_to = [row.then for row in rows if isinstance(row, Back)]
         self.moods = ascending(["calm", *[row.mood for row in rows], *led_to])
+        # What each sort of rows is looked for by, and what it tells, so that no row is asked which sort it is.
+        self._begins = [(row.mark, row.kind, row.mood) for row in rows if isinstance(row, Begin)]
+        self._sends = [(row.mood, row.service, row.mark) for row in rows if isinstance(row, Send)]
+        self._backs = [(row.mood, row.service, row.sign, row.then) for row in rows if isinstance(row, Back)]
+        self._ends = [(row.mood, row.outcome, row.sign, row.part) for row in rows if isinstance(row, End)]
+        # For each mood both ends, as those who ask about all trees ask for them again and again.
+        self.endings = {mood: endings_in(self._ends, mood) for mood in self.moods}
 
     def begin(self, mark, kind):
         """The mood in which a call begins that comes with this mark, of this kind."""
-        for row in self.rows:
-            if isinstance(row, Begin) and fits(row.mark, mark) and fits(row.kind, kind):
-                return row.mood
+        for for_mark, for_kind, mood in self._begins:
+            if (for_mark == mark or for_mark == "any") and (for_kind == kind or for_kind == "any"):
+                return mood
         return "calm"
 
     def send(self, mood, other, mark):
         """The mark that a call of the other service gets; `mark` is the one that came."""
-        for row in self.rows:
-            if isinstance(row, Send) and fits(row.mood, mood) and fits(row.service, other):
-                return mark if row.mark == "same" else row.mark
+        for in_mood, service, sent in self._sends:
+            if (in_mood == mood or in_mood == "any") and (service == other or service == "any"):
+                return mark if sent == "same" else sent
         return "none"
 
     def back(self, mood, other, sign):
         """The mood when a call of the other service has come back with this sign."""
-        for row in self.rows:
-            if not isinstance(row, Back):
+        for in_mood, service, for_sign, then in self._backs:
+            if in_mood != mood and in_mood != "any" or service != other and service != "any":
                 continue
-            if fits(row.mood, mood) and fits(row.service, other) and fits(row.sign, sign):
-                return mood if row.then == "same" else row.then
+            if for_sign == sign or for_sign == "any":
+                return mood if then == "same" else then
         return mood
 
     def end(self, mood, bad):
         """The sign that goes up at the end, and whether the part is kept."""
-        outcome = "bad" if bad else "good"
-        for row in self.rows:
-            if isinstance(row, End) and fits(row.mood, mood) and fits(row.outcome, outcome):
-                return row.sign, row.part == "keep"
-        return "none", False
+        return end_in(self._ends, mood, bad)
 
     def __eq__(self, other):
         return isinstance(other, Service) and str(self) == str(other)

@@ -1,31 +1,31 @@
 """Papers: what shows that no tree of a root meets a goal, and can be checked entry by entry."""
 
 from wholetraces.checks import is_name
-from wholetraces.deciding import search_of
+from wholetraces.closures import Closure, outcomes_of
+from wholetraces.deciding import top_tasks
 from wholetraces.runs import meets
-from wholetraces.steps import Steps
-from wholetraces.traits import TRAITS
+from wholetraces.steps import LATE, Steps
+from wholetraces.traits import ALL_BITS, TEXTS, bits_of, with_own
 
 
 class Lot:
-    """The outcomes of an entry as keys, and for each of their signs what a caller can gather with it."""
+    """The results of the outcomes of an entry as keys, and for each of their signs what a caller can gather with it."""
 
-    def __init__(self, steps, outcomes):
-        self.outcomes = {outcome: True for outcome in outcomes}
+    def __init__(self, outcomes):
+        results = [(sign, bits_of(kept, traits)) for sign, kept, traits in outcomes]
+        self.results = {result: True for result in results}
         self.told = {}
-        for outcome in outcomes:
-            sign, _, _ = outcome
-            if sign not in self.told:
-                self.told[sign] = {}
-            self.told[sign][steps.adds(outcome)] = True
+        for sign, bits in results:
+            self.told.setdefault(sign, {})[bits] = True
 
 
 def paper(book, goal):
     """Some right paper for a goal that is never met, or None."""
-    tasks = search_of(book).tasks
-    entries = [(name, mark, tuple(sorted(tasks[(name, mark)].results))) for name, mark in sorted(tasks)]
-    outcomes = {(name, mark): lot for name, mark, lot in entries}
-    return tuple(entries) if keeps_from(book, goal, outcomes) else None
+    tasks = Closure(Steps(book), top_tasks(book), ALL_BITS).tasks
+    outcomes = {key: outcomes_of(tasks[key]) for key in sorted(tasks)}
+    if not keeps_from(book, goal, outcomes):
+        return None
+    return tuple([(name, mark, outcomes[(name, mark)]) for name, mark in outcomes])
 
 
 def paper_holds(book, goal, value):
@@ -37,7 +37,7 @@ def paper_holds(book, goal, value):
     if len(outcomes) < len(value) or not keeps_from(book, goal, outcomes):
         return False
     steps = Steps(book)
-    lots = {task: Lot(steps, outcomes[task]) for task in outcomes}
+    lots = {task: Lot(outcomes[task]) for task in outcomes}
     return all([is_closed(steps, task, lots) for task in lots])
 
 
@@ -66,9 +66,7 @@ def is_outcome(value):
     if not isinstance(value, tuple) or len(value) != 3:
         return False
     sign, kept, traits = value
-    if not is_name_or_none(sign) or not isinstance(kept, bool) or not isinstance(traits, str):
-        return False
-    if traits != "".join([letter for letter in TRAITS if letter in traits]):
+    if not is_name_or_none(sign) or not isinstance(kept, bool) or traits not in TEXTS:
         return False
     return ("k" if kept else "d") in traits
 
@@ -84,27 +82,30 @@ def keeps_from(book, goal, outcomes):
 def moves_by(steps, task, place, calls, lots):
     """The pairs (place, what is gathered) to which these calls lead, with all outcomes in the lots, as keys."""
     moves = {}
-    for way, _, other in calls:
+    for way, other in calls:
         for sign, added_by in lots[other].told.items():
-            there = steps.behind(task, place, way, other, sign)
+            there = steps.place_behind(task, place, way, other, sign)
             for added in added_by:
                 moves[(there, added)] = True
+                if way in LATE:
+                    moves[(place, added)] = True
     return moves
 
 
 def is_closed(steps, task, lots):
     """Whether all that comes of a task's steps, by calls with outcomes in the lots, is in its own lot."""
     # For each place what can be gathered there, as keys.
-    found = {place: {0: True} for _, place in steps.starts(task)}
+    found = {place: {0: True} for _, place in steps.first_places(task)}
     waiting = [(place, 0) for place in found]
     moves = {}
     while waiting:
         place, gathered = waiting.pop()
-        if not all([outcome in lots[task].outcomes for _, outcome in steps.ends(task, place, gathered)]):
-            return False
+        for _, sign, own, near in steps.both_ends(task, place):
+            if (sign, with_own(gathered, own, near) & ALL_BITS) not in lots[task].results:
+                return False
         if place not in moves:
-            calls = steps.calls(task, place)
-            if not all([other in lots for _, _, other in calls]):
+            calls = steps.ways_on(task, place)
+            if not all([other in lots for _, other in calls]):
                 return False
             moves[place] = moves_by(steps, task, place, calls, lots)
         for there, added in moves[place]:

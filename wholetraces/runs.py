@@ -1,7 +1,7 @@
 """Trees done by the rows of a book."""
 
 from wholetraces.errors import Mismatch, NoService
-from wholetraces.traits import for_caller, traits_bits, traits_text, with_own
+from wholetraces.traits import outcome_of, own_bits, with_own
 from wholetraces.trees import Hear, Wait
 
 
@@ -16,9 +16,9 @@ def service_of(book, call):
     return service
 
 
-def done(book, call, mark, parts):
-    """The sign, whether the part is kept, and the traits of a call; its parts are added to the others."""
-    service = service_of(book, call)
+def done(books, call, mark, parts):
+    """The sign and the bits of a call, each done by the book of its side; its parts are added to the others."""
+    service = service_of(books[call.side], call)
     at = len(parts)
     # Its place is ahead of the parts that its events add.
     parts.append(None)
@@ -33,22 +33,29 @@ def done(book, call, mark, parts):
         name = event.call.service
         if name not in (service.waits if isinstance(event, Wait) else service.leaves):
             raise Mismatch()
-        sign, kept, traits = done(book, event.call, service.send(mood, name, mark), parts)
-        gathered |= for_caller(traits_bits(traits), kept)
+        sign, added = done(books, event.call, service.send(mood, name, mark), parts)
+        gathered |= added
         if isinstance(event, Wait):
             mood = service.back(mood, name, sign)
         else:
             left.append((name, sign))
     sign, kept = service.end(mood, call.bad)
     parts[at] = (call.service, mark, mood, sign, kept)
-    return sign, kept, traits_text(with_own(gathered, call.bad, kept))
+    own, near = own_bits(call.bad, kept)
+    return sign, with_own(gathered, own, near)
+
+
+def run_on_sides(books, call, mark):
+    """What comes of a tree whose outermost call comes with this mark, with a book for each side."""
+    parts = []
+    sign, bits = done(books, call, mark, parts)
+    sign, kept, traits = outcome_of(sign, bits)
+    return Run(parts, sign, kept, traits)
 
 
 def run(book, call, mark="none"):
     """What comes of a tree whose outermost call comes with this mark."""
-    parts = []
-    sign, kept, traits = done(book, call, mark, parts)
-    return Run(parts, sign, kept, traits)
+    return run_on_sides({"old": book, "new": book}, call, mark)
 
 
 def meets(outcome, goal):

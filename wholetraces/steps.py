@@ -1,72 +1,72 @@
 """What a call can do by the rows of a book, step by step, whatever trees of calls are beneath it.
 
 A task is a pair (service, mark): all calls of the service that come with the mark. A place is where such a call can be:
-the pair of its mood and the ascending tuple of all moods in which it has been so far.
+its mood, and the ascending tuple of the tasks of the calls that it could have left by now, one for each of its moods so
+far and each service that it may leave. Two sets of moods in which the same calls could be left are thus one place.
 """
 
-from wholetraces.traits import NEAR, for_caller, traits_bits, traits_text, with_own
 from wholetraces.trees import Call
 
-
-def place_behind(place, mood):
-    """The place of a call that was in a place, when its mood has become this one."""
-    _, moods = place
-    if mood in moods:
-        return mood, moods
-    return mood, tuple(sorted([*moods, mood]))
+# The ways of the calls whose signs come up late. Such a call may as well be left and never be heard.
+LATE = ("hear", "hear first", "hear second")
 
 
 class Steps:
     """The steps of the calls of a book."""
 
     def __init__(self, book):
-        self._services = {service.name: service for service in book.services}
-        self._texts = [traits_text(bits) for bits in range(NEAR)]
-        self._bits = {text: bits for bits, text in enumerate(self._texts)}
+        self.services = {service.name: service for service in book.services}
 
-    def starts(self, task):
-        """The pairs (kind, place) with which calls of a task begin."""
+    def first_moods(self, task, kind):
+        """The moods in which a call of a task, of this kind, begins."""
         name, mark = task
-        service = self._services[name]
-        moods = [(kind, service.begin(mark, kind)) for kind in service.kinds]
-        return [(kind, (mood, (mood,))) for kind, mood in moods]
+        return [self.services[name].begin(mark, kind)]
 
-    def calls(self, task, place):
-        """The triples (way, mood, task) of the calls by which a call goes on here, and the mood in which it makes them.
-
-        It waits for one, leaves one that is never heard, or hears the sign of one that it has left. Of one that is
-        never heard all is gathered when it is left, so for it the mood now is enough.
-        """
+    def called(self, task, mood, other):
+        """The task of the calls of another service that a call of a task makes in this mood."""
         name, mark = task
-        service = self._services[name]
-        mood, moods = place
-        found = [("wait", mood, (other, service.send(mood, other, mark))) for other in service.waits]
-        for other in service.leaves:
-            found.append(("leave", mood, (other, service.send(mood, other, mark))))
-            for before in moods:
-                found.append(("hear", before, (other, service.send(before, other, mark))))
-        return found
+        return other, self.services[name].send(mood, other, mark)
 
-    def behind(self, task, place, way, other, sign):
-        """The place behind a step by a call of another task that sends this sign up."""
-        if way == "leave":
-            return place
-        mood = self._services[task[0]].back(place[0], other[0], sign)
-        return place_behind(place, mood)
+    def mood_behind(self, task, mood, way, other, sign):
+        """The mood of a call of a task when a call of another one has come back in this way, with this sign."""
+        return self.services[task[0]].back(mood, other[0], sign)
 
-    def adds(self, outcome):
-        """What a caller gathers of a call with this outcome."""
-        _, kept, traits = outcome
-        return for_caller(self._bits[traits], kept)
+    def both_ends(self, task, place):
+        """For both ends of a call in a place whether it is bad, its sign, what it adds, and what it makes lone."""
+        return self.services[task[0]].endings[place[0]]
 
-    def ends(self, task, place, gathered):
-        """The pairs (bad, outcome) of the ends of a call that is here and has gathered this."""
-        found = []
-        for bad in (False, True):
-            sign, kept = self._services[task[0]].end(place[0], bad)
-            found.append((bad, (sign, kept, self._texts[with_own(gathered, bad, kept)])))
-        return found
-
-    def made(self, task, kind, bad, events):
-        """A call of a task."""
+    def made(self, task, mood, kind, bad, events):
+        """A call of a task that ends in this mood."""
         return Call(task[0], kind, bad, events)
+
+    def hears(self):
+        """The ways in which a late sign comes up."""
+        return ("hear",)
+
+    def place_of(self, task, mood, left):
+        """The place of a call whose mood has become this one, when it could have left these calls before."""
+        leaves = self.services[task[0]].leaves
+        if not leaves:
+            return mood, left
+        now = [self.called(task, mood, other) for other in leaves]
+        new = [other for other in now if other not in left]
+        return mood, tuple(sorted([*left, *new])) if new else left
+
+    def first_places(self, task):
+        """The pairs (kind, place) with which calls of a task begin."""
+        kinds = self.services[task[0]].kinds
+        return [(kind, self.place_of(task, mood, ())) for kind in kinds for mood in self.first_moods(task, kind)]
+
+    def ways_on(self, task, place):
+        """The pairs (way, task) of the calls by which a call goes on in a place."""
+        mood, left = place
+        found = [("wait", self.called(task, mood, other)) for other in self.services[task[0]].waits]
+        if left:
+            found.extend([(way, other) for way in self.hears() for other in left])
+        return found
+
+    def place_behind(self, task, place, way, other, sign):
+        """The place behind a step by a call of another task that sends this sign up."""
+        mood, left = place
+        then = self.mood_behind(task, mood, way, other, sign)
+        return place if then == mood else self.place_of(task, then, left)

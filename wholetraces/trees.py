@@ -27,9 +27,16 @@ def call_text(call):
     words = [call.service, call.kind, "bad" if call.bad else "good"]
     if call.side == "new":
         words.append("new")
-    if call.events:
-        events = ", ".join([str(event) for event in call.events])
-        words.append(f"({events})")
+    texts = []
+    for event in call.events:
+        if isinstance(event, Hear):
+            texts.append(f"hear {event.number}")
+        else:
+            # Not by the text of the event, so that a deep tree takes no more steps down than it has calls.
+            word = "wait" if isinstance(event, Wait) else "leave"
+            texts.append(f"{word} {call_text(event.call)}")
+    if texts:
+        words.append("(" + ", ".join(texts) + ")")
     return " ".join(words)
 
 
@@ -53,18 +60,17 @@ class Call:
         self.events = tuple(events)
         self.side = side
         self.inner = tuple([event.call for event in events if not isinstance(event, Hear)])
-        # Kept, so that neither goes down through all calls again.
-        self._beneath = tuple([call for made in self.inner for call in [made, *made._beneath]])
-        self._text = call_text(self)
+        # Kept, so that a large tree that has one call in many places is not gone through to be measured.
+        self._size = 1 + sum([len(call) for call in self.inner])
 
     def __len__(self):
-        return len([self, *self._beneath])
+        return len(range(self._size))
 
     def __eq__(self, other):
         return isinstance(other, Call) and str(self) == str(other)
 
     def __str__(self):
-        return str(self._text)
+        return call_text(self)
 
 
 class Wait:
