@@ -2,7 +2,9 @@
 
 import unittest
 
-from samples import GOALS, WEB_TEXT, Lots, RandomBooks, all_calls, all_forms, any_values, book_of, is_met
+from samples import (
+    GOALS, WEB_TEXT, LivelyBooks, Lots, RandomBooks, all_calls, all_forms, any_values, book_of, is_met,
+)
 from wholetraces.books import Book
 from wholetraces.deciding import least, least_call, never, outcomes, reached
 from wholetraces.errors import NoService
@@ -538,6 +540,87 @@ class AsToldByTheDocument(Checked):
                         self.assertIn(run(book, tree, mark).outcome, found[mark])
                     if name in book.roots:
                         self.assertLessEqual({part[:2] for part in run(book, tree).parts}, set(pairs))
+
+
+# Three services in a row, where two signs of the one below are needed to go on.
+ROW_TEXT = """service a top
+waits b
+back calm b err up
+back up b err high
+end high any none keep
+service b top
+waits c
+back calm c odd up
+back up c odd high
+end high any err drop
+service c top
+end any any odd drop
+root a"""
+
+
+class NeverBesideLeast(Checked):
+    """Whether a goal is never met is told without a tree, and must be as `least` tells."""
+
+    def assert_as_lots(self, book):
+        lots = Lots(book)
+        costs = [item for root in book.roots for item in lots.costs[(root, "none")].items()]
+        self.assert_least(book, {
+            goal: min(size for outcome, size in costs if is_met(outcome, goal))
+            for goal in GOALS if any(is_met(outcome, goal) for outcome, _ in costs)})
+        for name in book.names:
+            self.assertEqual(outcomes(book, name, "none"), tuple(sorted(lots.costs[(name, "none")])))
+        self.assertEqual(reached(book), lots.reached())
+
+    def test_three_in_a_row(self):
+        self.assert_least(Book.read(ROW_TEXT), {"torn": 7, "lost": 1, "hushed": 1})
+        self.assert_least(Book.read(ROW_TEXT.replace("waits b", "leaves b")), {"torn": 7, "lost": 1, "hushed": 1})
+        late = ROW_TEXT.replace("waits", "leaves").replace("end high any err drop", "end high bad err keep")
+        self.assert_least(Book.read(late), {"torn": 4, "lone": 4, "lost": 1, "hushed": 1})
+        self.assert_least(Book.read("service a top\nend any bad none keep\nroot a"), {})
+
+    def test_three_in_a_row_with_other_words(self):
+        for first in ("waits b", "leaves b", "waits b\nleaves b c", "leaves a b"):
+            for second in ("waits c", "leaves c", "waits b c", "waits a\nleaves c"):
+                for part in ("any err drop", "bad err keep", "good err keep", "any err keep"):
+                    for last in ("any odd drop", "bad odd keep", "any odd keep"):
+                        text = ROW_TEXT.replace("waits b", first).replace("waits c", second)
+                        text = text.replace("any err drop", part).replace("any odd drop", last)
+                        with self.subTest(text=text):
+                            self.assert_as_lots(Book.read(text))
+
+    def test_books_of_all_sorts(self):
+        never_met = set()
+        for seed, (services, rows, kinds, moods, marks, signs) in enumerate((
+            (1, 1, 1, 1, 0, 0), (1, 5, 2, 2, 1, 1), (1, 12, 1, 3, 2, 2), (2, 2, 1, 2, 0, 1), (2, 6, 2, 3, 2, 2), (3, 2, 1, 2, 0, 1),
+            (3, 5, 1, 2, 1, 1), (3, 8, 2, 3, 2, 2),
+        )):
+            shape = dict(services=services, rows=rows, kinds=kinds, moods=moods, marks=marks, signs=signs)
+            for book in RandomBooks(200 + seed, **shape).books(60) + LivelyBooks(210 + seed, **shape).books(60):
+                for goal in GOALS:
+                    with self.subTest(book=str(book), goal=goal):
+                        tree = least(book, goal)
+                        self.assertIs(never(book, goal), tree is None)
+                        never_met.add((goal, tree is None))
+                        if tree is not None:
+                            self.assertIn(tree.service, book.roots)
+                            self.assertTrue(is_met(run(book, tree).outcome, goal))
+        self.assertEqual(len(never_met), 8)
+
+    def test_lively_books_as_told_by_the_document(self):
+        for seed, (services, rows) in enumerate(((1, 8), (2, 5), (2, 9), (3, 4), (3, 8))):
+            for book in LivelyBooks(220 + seed, services=services, rows=rows, kinds=2, marks=2, signs=2).books(12):
+                with self.subTest(book=str(book)):
+                    self.assert_as_lots(book)
+
+    def test_roots_one_by_one(self):
+        for book in LivelyBooks(230, services=3, rows=6, marks=1, signs=2).books(40):
+            ones = [Book(book.services, [root]) for root in book.names]
+            every = Book(book.services, book.names)
+            for goal in GOALS:
+                sizes = [len(tree) for tree in (least(one, goal) for one in ones) if tree is not None]
+                tree = least(every, goal)
+                self.assertEqual(tree and len(tree), min(sizes, default=None))
+                self.assertIs(never(every, goal), all(never(one, goal) for one in ones))
 
 
 # Books in which some outcome needs many calls.

@@ -1,7 +1,9 @@
 """What any value is: an integer, a name, a sequence."""
 
-LETTERS = "abcdefghijklmnopqrstuvwxyz"
-NO_NAMES = ("none", "any", "same", "keep", "drop", "good", "bad", "old", "new", "both")
+NO_NAMES = {
+    "none": True, "any": True, "same": True, "keep": True, "drop": True, "good": True, "bad": True, "old": True,
+    "new": True, "both": True,
+}
 
 
 def is_integer(value):
@@ -11,9 +13,9 @@ def is_integer(value):
 
 def is_name(value):
     """Whether it is a name."""
-    if not isinstance(value, str) or not 1 <= len(value) <= 4:
+    if not isinstance(value, str) or not 1 <= len(value) <= 4 or not value.isascii():
         return False
-    return value not in NO_NAMES and all([letter in LETTERS for letter in value])
+    return value.isalpha() and value.islower() and value not in NO_NAMES
 
 
 def is_sequence(value):
