@@ -307,6 +307,25 @@ class Limits(unittest.TestCase):
         self.assertEqual(len(call), 60)
         self.assertEqual(str(call), "web top good (wait " * 59 + "pay sub good" + ")" * 59)
 
+    def test_so_deep_that_a_call_may_take_one_step_down_alone(self):
+        for event, word in ((Wait, "wait"), (Leave, "leave")):
+            call = LEAF
+            for _ in range(700):
+                call = Call("web", "top", False, [event(call)])
+            text = f"web top good ({word} " * 700 + "pay sub good" + ")" * 700
+            with self.subTest(word=word):
+                self.assertEqual((len(call), str(call), str(event(call))), (701, text, f"{word} {text}"))
+                self.assertTrue(call == Call("web", "top", False, [event(call.inner[0])]))
+                self.assertFalse(call == call.inner[0])
+
+    def test_one_call_in_many_places(self):
+        call, text = LEAF, "pay sub good"
+        for _ in range(12):
+            call = Call("web", "top", True, [Wait(call), Leave(call), Hear(0)], "new")
+            text = f"web top bad new (wait {text}, leave {text}, hear 0)"
+        self.assertEqual(len(call), 2 ** 13 - 1)
+        self.assertTrue(str(call) == text)
+
     def test_forty_events(self):
         events = [Leave(LEAF)] * 15 + [Wait(LEAF)] * 14 + [Hear(number) for number in range(11)]
         call = Call("web", "top", False, events)

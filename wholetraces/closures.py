@@ -20,7 +20,7 @@ class Closure(Net):
     """
 
     def __init__(self, steps, keys, matter, wanted=NO_BITS, wanted_beneath=NO_BITS):
-        super().__init__(steps)
+        Net.__init__(self, steps)
         self.met = False
         # The bits of all calls of the tasks that were asked for, also those that do not matter to a caller.
         self.tops = {}

@@ -63,7 +63,7 @@ class EntrySteps(Steps):
     """
 
     def __init__(self, book, entries):
-        super().__init__(book)
+        Steps.__init__(self, book)
         self._entries = entries
         for number, entry in enumerate(entries):
             self.services[number] = entry.service

@@ -32,7 +32,7 @@ class PairSteps(Steps):
     """
 
     def __init__(self, p, q, hears=("hear",)):
-        super().__init__(p)
+        Steps.__init__(self, p)
         self._others = {service.name: service for service in q.services}
         self._hears = hears
 

@@ -96,7 +96,7 @@ class Search(Net):
     """Searches a call of some tasks with the fewest calls in it that meets an aim; `found` is its finding, or None."""
 
     def __init__(self, steps, keys, matter, aim):
-        super().__init__(steps)
+        Net.__init__(self, steps)
         self.found = None
         self._matter = matter
         self._aim = aim

@@ -16,7 +16,7 @@ class SideSteps(Steps):
     """
 
     def __init__(self, old, new, standing):
-        super().__init__(old)
+        Steps.__init__(self, old)
         self._sides = {name: sides_of(standing[name]) for name in old.names}
         self._books = {
             "old": self.services,

@@ -22,8 +22,8 @@ def are_events(value):
     return True
 
 
-def call_text(call):
-    """The text of a call, of those of its events."""
+def call_words(call):
+    """The words of the text of a call, those of its events as one."""
     words = [call.service, call.kind, "bad" if call.bad else "good"]
     if call.side == "new":
         words.append("new")
@@ -33,11 +33,11 @@ def call_text(call):
             texts.append(f"hear {event.number}")
         else:
             # Not by the text of the event, so that a deep tree takes no more steps down than it has calls.
-            word = "wait" if isinstance(event, Wait) else "leave"
-            texts.append(f"{word} {call_text(event.call)}")
+            inner_words = call_words(event.call)
+            texts.append(" ".join(["wait" if isinstance(event, Wait) else "leave", *inner_words]))
     if texts:
         words.append("(" + ", ".join(texts) + ")")
-    return " ".join(words)
+    return words
 
 
 class Call:
@@ -70,7 +70,7 @@ class Call:
         return isinstance(other, Call) and str(self) == str(other)
 
     def __str__(self):
-        return call_text(self)
+        return " ".join(call_words(self))
 
 
 class Wait:
